@@ -1,0 +1,1 @@
+"""Offscale: workings on slide rules, decided for all operands."""

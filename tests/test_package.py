@@ -13,6 +13,33 @@ ALLOWED = (
     "ValueError", "LookupError", "TypeError", "KeyError", "Exception",
 )
 
+# Names that values of Python's own have as methods: no attribute is called so.
+TAKEN = (
+    "items", "keys", "values", "pop", "update", "append", "clear", "extend", "insert", "remove", "reverse", "setdefault",
+    "sort", "args", "encode", "decode", "hex", "fromhex", "format",
+)
+
+# What the document lists, file by file; of classes with what must stand in the body of the class itself.
+FUNCTIONS = {
+    "fractions": (
+        "is_fraction", "fraction", "plus", "minus", "times", "over", "part_of", "total", "compare", "floor_of",
+    ),
+    "systems": ("holds", "solve", "never_holds"),
+    "rules": ("place", "figure"),
+    "steps": ("working_error", "misfit", "operands_of", "notes_of", "count_steps"),
+    "texts": ("working_text", "read_working"),
+    "runs": ("run", "trail"),
+    "sheets": ("sheet",),
+}
+CLASSES = {
+    ("forms", "Form"): (
+        "__init__", "terms", "constant", "names", "factor", "__add__", "__sub__", "__neg__", "__mul__", "__call__",
+        "__eq__", "__str__",
+    ),
+    ("rules", "Rule"): ("__init__", "common", "body", "slide", "scale", "is_sliding", "__contains__", "__eq__"),
+    ("sheets", "Cell"): ("__init__", "point", "__contains__"),
+}
+
 
 def files():
     return [path for path in sorted(PACKAGE.rglob("*")) if "__pycache__" not in path.parts]
@@ -20,6 +47,34 @@ def files():
 
 def trees():
     return [(path.name, ast.parse(path.read_text())) for path in files()]
+
+
+def defined_in(body):
+    """The names of the functions and classes that are defined in a body, with what is in them."""
+    return {node.name: node for node in body if isinstance(node, (ast.FunctionDef, ast.ClassDef))}
+
+
+def is_plain(node):
+    """Whether a value is written out: no call, no name, no operator but a minus sign."""
+    kinds = (ast.Constant, ast.Tuple, ast.List, ast.Dict, ast.UnaryOp, ast.USub, ast.Load)
+    return all(isinstance(one, kinds) for one in ast.walk(node))
+
+
+class InterfaceTest(unittest.TestCase):
+    def test_functions_stand_in_their_files(self):
+        for name, wanted in FUNCTIONS.items():
+            found = defined_in(ast.parse((PACKAGE / (name + ".py")).read_text()).body)
+            for function in wanted:
+                with self.subTest(file=name, function=function):
+                    self.assertIsInstance(found.get(function), ast.FunctionDef)
+
+    def test_classes_have_their_methods_themselves(self):
+        for (name, kind), wanted in CLASSES.items():
+            found = defined_in(ast.parse((PACKAGE / (name + ".py")).read_text()).body)
+            self.assertIsInstance(found.get(kind), ast.ClassDef)
+            for method in wanted:
+                with self.subTest(file=name, kind=kind, method=method):
+                    self.assertIn(method, defined_in(found[kind].body))
 
 
 class PackageTest(unittest.TestCase):
@@ -52,6 +107,45 @@ class PackageTest(unittest.TestCase):
                     with self.subTest(path=name, line=node.lineno):
                         self.assertEqual(node.level, 0)
                         self.assertIn(node.module.split(".")[0], ("offscale", *LIBRARY))
+
+    def test_module_level(self):
+        for name, tree in trees():
+            for node in tree.body:
+                with self.subTest(path=name, line=node.lineno):
+                    if isinstance(node, ast.Assign):
+                        self.assertEqual([type(target) for target in node.targets], [ast.Name])
+                        self.assertTrue(is_plain(node.value))
+                    elif isinstance(node, ast.Expr):
+                        self.assertIsInstance(node.value, ast.Constant)
+                    else:
+                        self.assertIsInstance(node, (ast.ImportFrom, ast.FunctionDef, ast.ClassDef))
+
+    def test_attributes(self):
+        methods, properties, attributes = set(), set(), set()
+        for _, tree in trees():
+            for kind in [node for node in tree.body if isinstance(node, ast.ClassDef)]:
+                for method in defined_in(kind.body).values():
+                    decorators = [one.id for one in method.decorator_list]
+                    (properties if "property" in decorators else methods).add(method.name)
+            for node in ast.walk(tree):
+                if isinstance(node, ast.Attribute) and isinstance(node.ctx, ast.Store):
+                    attributes.add(node.attr)
+        self.assertEqual(sorted(attributes & (methods | properties | set(TAKEN))), [])
+        self.assertEqual(sorted(methods & properties), [])
+
+    def test_strings(self):
+        for name, tree in trees():
+            for node in ast.walk(tree):
+                if isinstance(node, ast.Constant) and isinstance(node.value, str):
+                    with self.subTest(path=name, line=node.lineno):
+                        self.assertNotIn("%", node.value)
+                        self.assertNotIn("__", node.value)
+
+    def test_operators_and_statements_that_are_not_used(self):
+        barred = (ast.Global, ast.AsyncFunctionDef, ast.Await, ast.MatMult, ast.AnnAssign, ast.NamedExpr)
+        for name, tree in trees():
+            for node in ast.walk(tree):
+                self.assertNotIsInstance(node, barred, name)
 
     def test_no_floats(self):
         for name, tree in trees():

@@ -30,6 +30,9 @@ FUNCTIONS = {
     "texts": ("working_text", "read_working"),
     "runs": ("run", "trail"),
     "sheets": ("sheet",),
+    "claims": ("wish_error", "runs_off", "alike", "meets"),
+    "points": ("carry", "tally", "book_fails", "right_books", "paper_holds"),
+    "slack": ("slack", "widest"),
 }
 CLASSES = {
     ("forms", "Form"): (
@@ -38,6 +41,10 @@ CLASSES = {
     ),
     ("rules", "Rule"): ("__init__", "common", "body", "slide", "scale", "is_sliding", "__contains__", "__eq__"),
     ("sheets", "Cell"): ("__init__", "point", "__contains__"),
+    ("desks", "Desk"): (
+        "__init__", "rule", "names", "version", "change_rule", "__getitem__", "__setitem__", "drop", "wish", "wish_of",
+        "undo", "together", "__contains__", "__len__", "__eq__", "__str__",
+    ),
 }
 
 
